@@ -1,0 +1,84 @@
+// Package word: bytes, words and values.
+package word
+
+const (
+	// Size is how many bytes a word has.
+	Size = 2
+
+	least    = -32768
+	greatest = 32767
+	turn     = 65536 // a value below 0 stands as itself plus this
+)
+
+// Clip takes the nearest value for a whole number.
+func Clip(n int) int {
+	if n < least {
+		return least
+	}
+	if n > greatest {
+		return greatest
+	}
+	return n
+}
+
+// Value is the value that the word of two bytes stands for.
+func Value(high, low int) int {
+	n := high*256 + low
+	if n > greatest {
+		return n - turn
+	}
+	return n
+}
+
+// Text is the word of a value.
+func Text(v int) string {
+	n := v
+	if n < 0 {
+		n += turn
+	}
+	return string([]byte{byte(n / 256), byte(n % 256)})
+}
+
+// Byte is the byte at a place of a text, 0 if there is none: so no place can panic.
+func Byte(s string, i int) int {
+	if i < 0 || i >= len(s) {
+		return 0
+	}
+	return int(s[i])
+}
+
+// Bytes is n bytes of a text, from a place on, as numbers.
+func Bytes(s string, from, n int) []int {
+	var l []int
+	for i := 0; i < n; i++ {
+		l = append(l, Byte(s, from+i))
+	}
+	return l
+}
+
+// Values is the values of all words of a text.
+func Values(s string) []int {
+	var l []int
+	for i := 0; i+Size <= len(s); i += Size {
+		l = append(l, Value(int(s[i]), int(s[i+1])))
+	}
+	return l
+}
+
+// At is the value at a place of a list, 0 if there is none: so no place can panic.
+func At(l []int, i int) int {
+	if i < 0 || i >= len(l) {
+		return 0
+	}
+	return l[i]
+}
+
+// Pick is the words of the values at some places of a list.
+func Pick(l []int, places []int) string {
+	s := ""
+	for i := 0; i < len(places); i++ {
+		v := At(l, places[i])
+		s += Text(v)
+	}
+	return s
+}
