@@ -85,12 +85,22 @@ func (n Net) Takes(in string) bool {
 	return len(in) == word.Size*n.Ins
 }
 
-// Eval is the words of the outputs, for the words of the inputs.
-func (n Net) Eval(in string) string {
-	l := word.Values(in)
+// Values is all values, for the words of the inputs; an input without a word is 0.
+func (n Net) Values(in string) []int {
+	given := word.Values(in)
+	var l []int
+	for i := 0; i < n.Ins; i++ {
+		l = append(l, word.At(given, i))
+	}
 	for i := 0; i < len(n.Nodes); i++ {
 		v := n.Nodes[i].Value(l)
 		l = append(l, v)
 	}
+	return l
+}
+
+// Eval is the words of the outputs, for the words of the inputs.
+func (n Net) Eval(in string) string {
+	l := n.Values(in)
 	return word.Pick(l, n.Outs)
 }

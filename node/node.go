@@ -28,6 +28,17 @@ func (d Node) Fits(n int) bool {
 	return false
 }
 
+// Operands is the operands that are values: not the bytes of a Const, nor how far a Shift goes.
+func (d Node) Operands() []int {
+	switch d.What {
+	case api.Add, api.Sub, api.Mul, api.Max, api.Min:
+		return []int{d.A, d.B}
+	case api.Shift, api.Relu:
+		return []int{d.A}
+	}
+	return nil
+}
+
 // Value is the node's value, where the values that it may take are those of the list.
 func (d Node) Value(l []int) int {
 	a := word.At(l, d.A)

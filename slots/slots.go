@@ -3,6 +3,8 @@ package slots
 
 import (
 	"slots/api"
+	"slots/compile"
+	"slots/delta"
 	"slots/net"
 	"slots/straight"
 	"slots/sum"
@@ -36,7 +38,14 @@ func Eval(image string, in string) (string, api.Errno) {
 }
 
 // Compile turns a net into code (P6).
-func Compile(image string) (string, api.Errno) { return "", api.OK }
+func Compile(image string) (string, api.Errno) {
+	n, ok := net.Parse(image)
+	if !ok {
+		return "", api.ErrImage
+	}
+	c := compile.Of(n)
+	return c.Text(), api.OK
+}
 
 // Exec runs code (P5).
 func Exec(code string, in string) (string, api.Errno) {
@@ -51,10 +60,21 @@ func Exec(code string, in string) (string, api.Errno) {
 }
 
 // Patch puts some bytes together out of others (P7).
-func Patch(base string, patch string, n int) (string, api.Errno) { return "", api.OK }
+func Patch(base string, patch string, n int) (string, api.Errno) {
+	s, ok := delta.Apply(base, patch, n)
+	if !ok {
+		return "", api.ErrPatch
+	}
+	return s, api.OK
+}
 
 // Diff tells how some bytes come out of others (P8).
-func Diff(base string, now string) (string, api.Errno) { return "", api.OK }
+func Diff(base string, now string) (string, api.Errno) {
+	if len(base) > api.MaxImage || len(now) > api.MaxImage {
+		return "", api.ErrPatch
+	}
+	return delta.Between(base, now), api.OK
+}
 
 // New makes a device (P9).
 func New(key string, image string, version int) (*Device, api.Errno) { return nil, api.OK }

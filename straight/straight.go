@@ -112,3 +112,16 @@ func (c Code) Exec(in string) string {
 	}
 	return word.Pick(cells, c.Outs)
 }
+
+// Text is the code as bytes.
+func (c Code) Text() string {
+	b := []byte{mark, byte(c.Ins), byte(c.Cells), byte(len(c.Outs)), byte(len(c.Steps))}
+	for i := 0; i < len(c.Outs); i++ {
+		b = append(b, byte(c.Outs[i]))
+	}
+	for i := 0; i < len(c.Steps); i++ {
+		s := c.Steps[i]
+		b = append(b, byte(s.Does.What), byte(s.To), byte(s.Does.A), byte(s.Does.B))
+	}
+	return string(b)
+}

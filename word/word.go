@@ -30,13 +30,19 @@ func Value(high, low int) int {
 	return n
 }
 
-// Text is the word of a value.
-func Text(v int) string {
+// Split is the two bytes of the word of a value, the high one first.
+func Split(v int) (int, int) {
 	n := v
 	if n < 0 {
 		n += turn
 	}
-	return string([]byte{byte(n / 256), byte(n % 256)})
+	return n / 256, n % 256
+}
+
+// Text is the word of a value.
+func Text(v int) string {
+	high, low := Split(v)
+	return string([]byte{byte(high), byte(low)})
 }
 
 // Byte is the byte at a place of a text, 0 if there is none: so no place can panic.
