@@ -71,7 +71,7 @@ func read(patch string, i int) (step, int, bool) {
 		return step{}, 0, false
 	}
 	// Where the place or the count is missing next lies beyond the patch, so no part is there, be it of no bytes.
-	s, ok := part(patch, next, size)
+	s, ok := word.Part(patch, next, size)
 	if !ok {
 		return step{}, 0, false
 	}
@@ -95,19 +95,11 @@ func (d step) gives(base string) string {
 	case filled:
 		return repeated(d.bytes, d.count)
 	}
-	s, _ := part(base, d.at, d.count)
+	s, _ := word.Part(base, d.at, d.count)
 	if d.what == changed {
 		return added(s, d.bytes)
 	}
 	return s
-}
-
-// part is n bytes of a text, from a place on; false if they reach beyond it.
-func part(s string, from, n int) (string, bool) {
-	if from < 0 || n < 0 || from+n > len(s) {
-		return "", false
-	}
-	return s[from : from+n], true
 }
 
 // repeated is a text n times.
@@ -133,7 +125,7 @@ func added(s, more string) string {
 // A copy of what is alike in front costs a step more: it is taken where it makes the patch shorter.
 func Between(base, now string) string {
 	n := alike(base, now)
-	rest, _ := part(now, n, len(now)-n)
+	rest, _ := word.Part(now, n, len(now)-n)
 	short := copying(n) + giving(rest)
 	plain := giving(now)
 	if len(short) < len(plain) {

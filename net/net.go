@@ -37,6 +37,27 @@ func Parse(image string) (Net, bool) {
 	return n, true
 }
 
+// Check is ErrImage if some bytes are no image.
+func Check(image string) api.Errno {
+	_, ok := Parse(image)
+	if !ok {
+		return api.ErrImage
+	}
+	return api.OK
+}
+
+// Answer is what the net of an image answers, or why it does not.
+func Answer(image, in string) (string, api.Errno) {
+	n, ok := Parse(image)
+	if !ok {
+		return "", api.ErrImage
+	}
+	if !n.Takes(in) {
+		return "", api.ErrInput
+	}
+	return n.Eval(in), api.OK
+}
+
 // shaped tells whether the head of an image holds, and the image has the length that the head tells.
 func shaped(image string) bool {
 	if len(image) < headSize || image[0] != mark {

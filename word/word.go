@@ -30,7 +30,7 @@ func Value(high, low int) int {
 	return n
 }
 
-// Split is the two bytes of the word of a value, the high one first.
+// Split is the two bytes of the word of a value, or of a number from 0 to 65535, the high one first.
 func Split(v int) (int, int) {
 	n := v
 	if n < 0 {
@@ -39,7 +39,7 @@ func Split(v int) (int, int) {
 	return n / 256, n % 256
 }
 
-// Text is the word of a value.
+// Text is the word of a value, or of a number from 0 to 65535.
 func Text(v int) string {
 	high, low := Split(v)
 	return string([]byte{byte(high), byte(low)})
@@ -60,6 +60,30 @@ func Bytes(s string, from, n int) []int {
 		l = append(l, Byte(s, from+i))
 	}
 	return l
+}
+
+// Number is the number, from 0 to 65535, of the word at a place of a text.
+func Number(s string, at int) int {
+	high := Byte(s, at)
+	low := Byte(s, at+1)
+	return high*256 + low
+}
+
+// Part is n bytes of a text, from a place on; false if they reach beyond it.
+func Part(s string, from, n int) (string, bool) {
+	if from < 0 || n < 0 || from > len(s) || n > len(s)-from {
+		return "", false
+	}
+	return s[from : from+n], true
+}
+
+// Padded is n bytes of a text, from a place on, with 0 where the text is over.
+func Padded(s string, from, n int) string {
+	var b []byte
+	for i := 0; i < n; i++ {
+		b = append(b, byte(Byte(s, from+i)))
+	}
+	return string(b)
 }
 
 // Values is the values of all words of a text.

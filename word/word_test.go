@@ -52,3 +52,40 @@ func TestPlacesThatAreNot(t *testing.T) {
 		t.Errorf("Pick: %q", s)
 	}
 }
+
+func TestNumbers(t *testing.T) {
+	for n := range 65536 {
+		if got := Number("x"+Text(n)+"y", 1); got != n {
+			t.Fatalf("Number of the word of %d: %d", n, got)
+		}
+	}
+	for _, i := range []int{-1 << 63, 2, 1<<63 - 1} {
+		if n := Number("ab", i); n != 0 {
+			t.Errorf("Number at %d: %d", i, n)
+		}
+	}
+}
+
+func TestParts(t *testing.T) {
+	for _, c := range []struct {
+		from, n int
+		want    string
+		ok      bool
+	}{
+		{0, 3, "abc", true}, {0, 0, "", true}, {3, 0, "", true}, {1, 1, "b", true}, {2, 1, "c", true},
+		{4, 0, "", false}, {2, 2, "", false}, {0, 4, "", false}, {-1, 1, "", false}, {1, -1, "", false}, {1, 1<<63 - 1, "", false}, {1<<63 - 1, 1, "", false}, {-1 << 63, -1 << 63, "", false},
+	} {
+		if s, ok := Part("abc", c.from, c.n); s != c.want || ok != c.ok {
+			t.Errorf("Part at %d, %d bytes: %q, %v", c.from, c.n, s, ok)
+		}
+	}
+	if s := Padded("abc", 1, 4); s != "bc\x00\x00" {
+		t.Errorf("Padded: %q", s)
+	}
+	if s := Padded("abc", 5, 1); s != "\x00" {
+		t.Errorf("Padded beyond: %q", s)
+	}
+	if s := Padded("abc", 0, 0); s != "" {
+		t.Errorf("Padded with nothing: %q", s)
+	}
+}
