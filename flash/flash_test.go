@@ -37,6 +37,31 @@ func TestWrites(t *testing.T) {
 	}
 }
 
+// TestPowerFails: each cut and torn page, at the edges and beyond all.
+func TestPowerFails(t *testing.T) {
+	old, text := strings.Repeat("o", 48), strings.Repeat("n", 48)
+	for _, cut := range []int{-1 << 63, -1, 0, 1, 2, 3, 4, 1<<63 - 1} {
+		for _, torn := range []int{-1 << 63, -1, 0, 1, 8, 15, 16, 17, 1<<63 - 1} {
+			var f Flash
+			f.WriteAll(Spread(4, 3, old), -1, 0)
+			lasts := f.WriteAll(Spread(4, 3, text), cut, torn)
+			n := 48
+			if cut >= 0 && cut < 3 {
+				n = 16*cut + max(0, min(16, torn))
+			}
+			if s := f.Text(4, 48); s != text[:n]+old[n:] || lasts != (cut < 0 || cut >= 3) {
+				t.Errorf("cut %d, torn %d: %q, %t", cut, torn, s, lasts)
+			}
+			if f.Page(3)+f.Page(7) != strings.Repeat("\x00", 32) {
+				t.Errorf("cut %d, torn %d: other pages are written", cut, torn)
+			}
+			if !f.WriteAll(nil, cut, torn) {
+				t.Errorf("cut %d, torn %d: the power fails though nothing is written", cut, torn)
+			}
+		}
+	}
+}
+
 func TestPagesThatAreNot(t *testing.T) {
 	var f Flash
 	for _, i := range []int{-1 << 63, -1, api.Pages, 1 << 60, 1<<63 - 1} {

@@ -59,6 +59,35 @@ func TestPageChanges(t *testing.T) {
 	}
 }
 
+// TestTorn: of each number, a new record that is not wholly written does not count, be it torn once or twice; one that is does.
+func TestTorn(t *testing.T) {
+	r := First(Slot{Size: 8, Version: 7})
+	pages := [2]string{r.Text(), strings.Repeat("\x00", 16)}
+	for i := range 600 {
+		next := r.Steady()
+		if i%3 == 0 {
+			next = r.Trying(Slot{Size: i % 97, Version: i})
+		}
+		for first := range 16 {
+			for second := range 17 {
+				now := pages
+				for _, n := range []int{first, second} {
+					now[next.Page] = next.Text()[:n] + now[next.Page][n:]
+				}
+				want := r
+				if second == 16 {
+					want = next
+				}
+				if got := Standing(now[0], now[1]); got != want {
+					t.Fatalf("record %d, torn at %d and %d: %+v, want %+v", i, first, second, got, want)
+				}
+			}
+		}
+		pages[next.Page] = next.Text()
+		r = next
+	}
+}
+
 func TestChunksThatAreNot(t *testing.T) {
 	r := First(Slot{}).Fetching()
 	for i := range 6 {

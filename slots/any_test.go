@@ -44,10 +44,18 @@ func anUpdate(r *rand.Rand, kept int, base string) update {
 	return u
 }
 
-// anEvent: an event that may well be the right one for a device in this state; u is the update that was offered last.
-func anEvent(r *rand.Rand, m *model, u *update) api.Event {
+// seen: what somebody who sends events may know of a device.
+type seen struct {
+	key           string
+	on            bool
+	phase         int
+	keeps, serves known
+}
+
+// anEvent: an event that may well be the right one for a device of which this is known; u is the update that was offered last.
+func anEvent(r *rand.Rand, s seen, u *update) api.Event {
 	e := api.Event{Cut: -1, N: r.Intn(9) - 1}
-	if !m.on {
+	if !s.on {
 		e.Kind = api.Boot
 		if r.Intn(20) == 0 {
 			e.Kind = r.Intn(10) - 1
@@ -55,19 +63,19 @@ func anEvent(r *rand.Rand, m *model, u *update) api.Event {
 		return e
 	}
 	e.Kind = []int{api.Off, api.Tick, api.Tick, api.Infer, api.Offer, api.Chunk, api.Chunk, api.Chunk, api.Chunk, api.Confirm, r.Intn(10) - 1}[r.Intn(11)]
-	if m.told(2) == 1 && e.Kind == api.Offer && r.Intn(4) > 0 {
+	if s.phase == api.Fetching && e.Kind == api.Offer && r.Intn(4) > 0 {
 		e.Kind = api.Chunk
 	}
 	switch e.Kind {
 	case api.Infer:
-		ins := int(m.image(m.served())[1])
+		ins := int(s.serves.image[1])
 		if r.Intn(10) == 0 {
 			ins = r.Intn(5)
 		}
 		e.Text = words(someValues(r)[:ins]...)
 	case api.Offer:
-		*u = anUpdate(r, m.version(m.told(1)), m.image(m.told(1)))
-		e.Text = bent(r, u.manifest(m.key))
+		*u = anUpdate(r, s.keeps.version, s.keeps.image)
+		e.Text = bent(r, u.manifest(s.key))
 	case api.Chunk:
 		if e.N >= 0 && e.N < len(u.chunks()) {
 			e.Text = bent(r, u.chunks()[e.N])
@@ -99,7 +107,7 @@ func TestP11AnyEvents(t *testing.T) {
 		p := paired(t, words(r.Intn(65536), r.Intn(65536))[:r.Intn(5)], anImage(r), []int{0, 7, 254, 32766, 65500}[r.Intn(5)])
 		var u update
 		for range 1000 {
-			a := p.play(anEvent(r, p.m, &u))
+			a := p.play(anEvent(r, p.m.seen(), &u))
 			seen[api.Reply{Err: a.Err}] = true
 		}
 	}
@@ -121,7 +129,7 @@ func TestP1Devices(t *testing.T) {
 	}
 	for range 5000 {
 		i := r.Intn(len(l))
-		l[i].play(anEvent(r, l[i].m, &us[i]))
+		l[i].play(anEvent(r, l[i].m.seen(), &us[i]))
 		k := r.Intn(len(l))
 		l[k].alike("beside the events of another device")
 		slots.Eval(double, words(k))
@@ -135,7 +143,7 @@ func TestP1SameEvents(t *testing.T) {
 	p := paired(t, "key", double, 7)
 	var u update
 	for range 1000 {
-		p.play(anEvent(r, p.m, &u))
+		p.play(anEvent(r, p.m.seen(), &u))
 	}
 	q := paired(t, "key", double, 7)
 	for _, e := range p.past {

@@ -291,22 +291,22 @@ func (m *model) confirm(api.Event) api.Reply {
 	return api.Reply{Ask: -1}
 }
 
-// pair: a device and its second telling, which play the same events.
+// seen: what somebody who sends events may know of the device.
+func (m *model) seen() seen {
+	in := func(slot int) known { return known{m.image(slot), m.version(slot)} }
+	return seen{key: m.key, on: m.on, phase: m.told(2), keeps: in(m.told(1)), serves: in(m.served())}
+}
+
+// pair: a device, which is guarded, and its second telling, which play the same events.
 type pair struct {
-	t    *testing.T
-	x    *slots.Device
-	m    *model
-	past []api.Event
+	*guard
+	m *model
 }
 
 // paired: a new device that is like its second telling.
 func paired(t *testing.T, key, image string, version int) *pair {
 	t.Helper()
-	x, err := slots.New(key, image, version)
-	if x == nil || err != api.OK {
-		t.Fatalf("P9: New(%q, %q, %d): %d", key, image, version, err)
-	}
-	p := &pair{t: t, x: x, m: modelOf(key, image, version)}
+	p := &pair{guard: guarded(t, key, image, version), m: modelOf(key, image, version)}
 	p.alike("a new device")
 	return p
 }
@@ -315,11 +315,11 @@ func paired(t *testing.T, key, image string, version int) *pair {
 func (p *pair) alike(why string) {
 	p.t.Helper()
 	if s := p.x.Status(); s != p.m.status() {
-		p.t.Fatalf("P10: %s: Status() = %+v, want %+v; events: %+v", why, s, p.m.status(), p.past)
+		p.t.Fatalf("P10: %s: Status() = %+v, want %+v; events: %#v", why, s, p.m.status(), p.past)
 	}
 	for i := range 23 {
 		if s := p.x.Page(i); s != string(p.m.pages[i][:]) {
-			p.t.Fatalf("P10: %s: Page(%d) = %q, want %q; events: %+v", why, i, s, p.m.pages[i], p.past)
+			p.t.Fatalf("P10: %s: Page(%d) = %q, want %q; events: %#v", why, i, s, p.m.pages[i], p.past)
 		}
 	}
 }
@@ -327,10 +327,9 @@ func (p *pair) alike(why string) {
 // play: an event; both answer the same, and look the same behind it.
 func (p *pair) play(e api.Event) api.Reply {
 	p.t.Helper()
-	p.past = append(p.past, e)
-	r, want := p.x.Do(e), p.m.do(e)
+	r, want := p.guard.play(e), p.m.do(e)
 	if r != want {
-		p.t.Fatalf("P11: %+v: %+v, want %+v; events: %+v", e, r, want, p.past)
+		p.t.Fatalf("P11: %+v: %+v, want %+v; events: %#v", e, r, want, p.past)
 	}
 	p.alike("behind an event")
 	return r
@@ -339,8 +338,14 @@ func (p *pair) play(e api.Event) api.Reply {
 // goes: an event at which the power does not fail has an answer that is told.
 func (p *pair) goes(kind, n int, text string, want api.Reply) {
 	p.t.Helper()
-	if r := p.play(api.Event{Kind: kind, N: n, Text: text, Cut: -1}); r != want {
-		p.t.Fatalf("event %d, %d, %.100q: %+v, want %+v", kind, n, text, r, want)
+	p.gives(event(kind, n, text), want)
+}
+
+// gives: an event has an answer that is told.
+func (p *pair) gives(e api.Event, want api.Reply) {
+	p.t.Helper()
+	if r := p.play(e); r != want {
+		p.t.Fatalf("event %d, %d, %.100q, cut at %d and %d: %+v, want %+v", e.Kind, e.N, e.Text, e.Cut, e.Torn, r, want)
 	}
 }
 

@@ -2,6 +2,7 @@ package slots_test
 
 import (
 	"math/rand"
+	"slices"
 	"testing"
 
 	"slots/api"
@@ -62,39 +63,15 @@ func writes(first string, past []api.Event, e api.Event) int {
 func story() []api.Event {
 	u, v := toSquare(9, 7), update{version: 11, base: 9, patch: plainly(large), image: large, example: raw(0)}
 	bad := update{version: 10, base: 9, patch: raw(9), image: large, example: raw(0)}
-	var l []api.Event
-	does := func(kind, n int, text string) {
-		l = append(l, api.Event{Kind: kind, N: n, Text: text, Cut: -1})
-	}
-	fetch := func(u update) {
-		does(api.Offer, 0, u.manifest("key"))
-		for i, c := range u.chunks() {
-			does(api.Chunk, i, c)
-		}
-		does(api.Tick, 0, "")
-	}
-	does(api.Offer, 0, v.manifest("key"))
-	does(api.Offer, 0, v.manifest("kez"))
-	does(api.Infer, 0, words(1))
-	fetch(u)
-	for range 4 {
-		does(api.Off, 0, "")
-		does(api.Boot, 0, "")
-	}
-	fetch(u)
-	for range 5 {
-		does(api.Tick, 0, "")
-	}
-	fetch(u)
-	does(api.Confirm, 0, "")
-	does(api.Offer, 0, bad.manifest("key"))
-	does(api.Offer, 0, bad.manifest("key"))
-	does(api.Chunk, 0, bad.patch)
-	does(api.Chunk, 0, bad.patch)
-	does(api.Tick, 0, "")
-	fetch(v)
-	does(api.Confirm, 0, "")
-	return l
+	offer := event(api.Offer, 0, bad.manifest("key"))
+	chunk := event(api.Chunk, 0, bad.patch)
+	return slices.Concat(
+		[]api.Event{event(api.Offer, 0, v.manifest("key")), event(api.Offer, 0, v.manifest("kez")), event(api.Infer, 0, words(1))},
+		u.fetched("key"), times(4, off, boot),
+		u.fetched("key"), times(5, tick),
+		u.fetched("key"), []api.Event{confirm},
+		[]api.Event{offer, offer, chunk, chunk, tick},
+		v.fetched("key"), []api.Event{confirm})
 }
 
 // TestP12EachPage: at each page of each event of a story the power fails; then the story goes on from there.
@@ -145,7 +122,7 @@ func TestP12AnyEvents(t *testing.T) {
 		p := paired(t, words(r.Intn(65536), r.Intn(65536))[:r.Intn(5)], anImage(r), []int{0, 7, 254, 32766, 65500}[r.Intn(5)])
 		var u update
 		for range 1000 {
-			e := anEvent(r, p.m, &u)
+			e := anEvent(r, p.m.seen(), &u)
 			if r.Intn(5) == 0 {
 				e.Cut, e.Torn = r.Intn(8), r.Intn(20)-2
 			}

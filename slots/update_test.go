@@ -21,6 +21,23 @@ func (u update) manifest(key string) string {
 	return sealed(key, s+u.example)
 }
 
+// known: what is kept once the update is.
+func (u update) known() known { return known{u.image, u.version} }
+
+// fetched: the events by which the update is installed.
+func (u update) fetched(key string) []api.Event {
+	l := []api.Event{event(api.Offer, 0, u.manifest(key))}
+	for i, c := range u.chunks() {
+		l = append(l, event(api.Chunk, i, c))
+	}
+	return append(l, event(api.Tick, 0, ""))
+}
+
+// event: one at which the power does not fail.
+func event(kind, n int, text string) api.Event {
+	return api.Event{Kind: kind, N: n, Text: text, Cut: -1}
+}
+
 // sealed: a text with its seal.
 func sealed(key, s string) string { return s + words(slots.Sum(key+s)) }
 
